@@ -1,0 +1,65 @@
+"""The form of the package's files, as far as it is told by numbers and places."""
+
+import ast
+import unittest
+from pathlib import Path
+
+from pulledout import errors, items, names
+
+PACKAGE = Path(__file__).resolve().parent.parent / "pulledout"
+LIBRARY = {"heapq": ("heappush", "heappop", "heapify", "heapreplace", "heappushpop"),
+           "math": ("gcd", "lcm", "isqrt", "comb", "perm", "factorial"),
+           "itertools": ("product", "combinations", "permutations")}
+# What the interface lists under each file.
+INTERFACE = {names: ("is_name", "is_integer"),
+             errors: ("PullError", "InvalidItem", "InvalidStep", "InvalidBook", "InvalidState", "InvalidMove",
+                      "InvalidText", "InvalidCommand", "InvalidOption", "NotRight", "Faulty", "InvalidNumber",
+                      "UnknownName", "LimitExceeded", "NothingToUndo"),
+             items: ("is_item", "is_step", "is_use")}
+
+
+def files():
+    return sorted(path for path in PACKAGE.rglob("*") if "__pycache__" not in path.parts and not path.is_dir())
+
+
+class Form(unittest.TestCase):
+    def test_files(self):
+        self.assertIn(PACKAGE / "__init__.py", files())
+        for path in files():
+            self.assertRegex(path.name, r"^[a-z0-9_]+\.py$")
+
+    def test_sizes(self):
+        for path in files():
+            lines = path.read_text("utf-8").split("\n")
+            self.assertLessEqual(len(lines), 399, path)
+            self.assertLessEqual(max(len(line) for line in lines), 120, path)
+            for node in ast.walk(ast.parse(path.read_text("utf-8"))):
+                if isinstance(node, ast.FunctionDef):
+                    self.assertLessEqual(node.end_lineno - node.lineno + 1, 40, (path, node.name))
+
+    def test_characters(self):
+        for path in files():
+            for sign in path.read_text("utf-8"):
+                self.assertTrue(sign == "\n" or " " <= sign <= "~", (path, sign))
+
+    def test_imports(self):
+        for path in files():
+            for node in ast.walk(ast.parse(path.read_text("utf-8"))):
+                self.assertNotIsInstance(node, ast.Import, path)
+                if isinstance(node, ast.ImportFrom):
+                    self.check_import(path, node)
+
+    def check_import(self, path, node):
+        self.assertEqual(node.level, 0, path)
+        for alias in node.names:
+            if not node.module.startswith("pulledout."):
+                self.assertIn(alias.name, LIBRARY.get(node.module, ()), path)
+
+    def test_interface_stands_in_its_files(self):
+        for module, listed in INTERFACE.items():
+            for name in listed:
+                self.assertEqual(getattr(module, name).__module__, module.__name__, name)
+
+
+if __name__ == "__main__":
+    unittest.main()
