@@ -18,7 +18,7 @@ _USING_STEPS = ("mark", "wait", "empty", "bar", "forget", "idle", "let")
 
 def is_item(value):
     """Whether any value is an item of a hand."""
-    return _is_bare(value, _OPENERS) or _is_way_item(value) or _is_ask(value)
+    return _is_bare(value, _OPENERS) or is_way_item(value) or _is_ask(value)
 
 
 def is_step(value):
@@ -33,21 +33,23 @@ def is_use(value):
     return is_step(value) and value[0] in _USING_STEPS
 
 
-def _is_way_item(value):
+def is_way_item(value):
+    """Whether any value is an item that may stand in a way out."""
     return _is_bare(value, _BARE_ITEMS) or _is_named(value, _NAMED_ITEMS)
 
 
-def _is_ask(value):
+def is_ask_head(value):
+    """Whether any value is an ask but for what stands in its way out, which may be anything."""
     if not isinstance(value, tuple) or len(value) != 3:
         return False
     word, mark, way_out = value
-    return _is_word(word, _ASKS) and is_name(mark) and _is_way_out(way_out)
-
-
-def _is_way_out(value):
-    if not isinstance(value, tuple) or len(value) > _MOST_IN_WAY_OUT:
+    if not _is_word(word, _ASKS) or not is_name(mark):
         return False
-    return all([_is_way_item(item) for item in value])
+    return isinstance(way_out, tuple) and len(way_out) <= _MOST_IN_WAY_OUT
+
+
+def _is_ask(value):
+    return is_ask_head(value) and all([is_way_item(item) for item in value[2]])
 
 
 def _is_bare(value, words):

@@ -4,7 +4,7 @@ import ast
 import unittest
 from pathlib import Path
 
-from pulledout import errors, items, names
+from pulledout import benches, books, closed, errors, faults, items, moves, names, rows, runs, tables
 
 PACKAGE = Path(__file__).resolve().parent.parent / "pulledout"
 LIBRARY = {"heapq": ("heappush", "heappop", "heapify", "heapreplace", "heappushpop"),
@@ -15,7 +15,29 @@ INTERFACE = {names: ("is_name", "is_integer"),
              errors: ("PullError", "InvalidItem", "InvalidStep", "InvalidBook", "InvalidState", "InvalidMove",
                       "InvalidText", "InvalidCommand", "InvalidOption", "NotRight", "Faulty", "InvalidNumber",
                       "UnknownName", "LimitExceeded", "NothingToUndo"),
-             items: ("is_item", "is_step", "is_use")}
+             items: ("is_item", "is_step", "is_use"),
+             rows: ("HandRow", "WorkRow", "PullRow"),
+             books: ("Book",),
+             moves: ("is_move", "is_state", "first_state", "moves", "fault_of", "after", "is_freed", "is_stuck",
+                     "is_kept", "count"),
+             runs: ("Run", "play", "is_run", "fault_at_end"),
+             benches: ("Bench",),
+             tables: ("Table",),
+             faults: ("faults", "is_right", "fewest", "is_shown", "require_right", "meetings", "way_out"),
+             closed: ("closed_list", "is_closed")}
+# What the interface lists for each class.
+TUPLE_LIKE = ("of", "parts", "__len__", "__getitem__", "__iter__", "__contains__", "__eq__")
+PLACED = ("size", "item", "nexts", "holds", "is_under", "is_locked", "places_of")
+METHODS = {rows.HandRow: TUPLE_LIKE + PLACED + ("opening",),
+           rows.WorkRow: TUPLE_LIKE + PLACED,
+           rows.PullRow: TUPLE_LIKE + ("first", "has_lock", "is_behind"),
+           books.Book: ("hands", "puller", "works", "marks", "__getitem__", "__contains__", "__len__", "__eq__",
+                        "changed"),
+           runs.Run: ("of", "hands", "listed", "__len__", "__getitem__", "__iter__", "__contains__", "__add__",
+                      "__radd__", "__iadd__", "__eq__"),
+           benches.Bench: ("__call__", "book", "state", "deeds", "freed", "kept", "most", "allow", "moves", "faults",
+                           "stuck", "__len__", "back", "copy", "attempt", "trial"),
+           tables.Table: ("__len__", "__contains__", "states", "__getitem__", "run_to", "links", "faults")}
 
 
 def files():
@@ -59,6 +81,19 @@ class Form(unittest.TestCase):
         for module, listed in INTERFACE.items():
             for name in listed:
                 self.assertEqual(getattr(module, name).__module__, module.__name__, name)
+
+    def test_methods_stand_in_their_classes(self):
+        for kind, listed in METHODS.items():
+            for name in listed + ("__init__",):
+                self.assertIn(name, vars(kind), kind)
+
+    def test_no_dunder_methods_beyond_the_language(self):
+        allowed = {"__init__", "__eq__", "__len__", "__iter__", "__contains__", "__getitem__", "__add__", "__radd__",
+                   "__iadd__", "__call__", "__enter__", "__exit__"}
+        for path in files():
+            for node in ast.walk(ast.parse(path.read_text("utf-8"))):
+                if isinstance(node, ast.FunctionDef) and node.name.startswith("__"):
+                    self.assertIn(node.name, allowed, path)
 
 
 if __name__ == "__main__":

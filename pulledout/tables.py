@@ -1,0 +1,107 @@
+"""Tables: all states to which the runs of a book without a fault lead ([8] to [11])."""
+
+from pulledout.engine import FAULT_WORDS, MOST_HANDS, is_kept_at, is_stuck_at, steps_on
+from pulledout.errors import InvalidNumber, InvalidState, LimitExceeded
+from pulledout.moves import is_state
+from pulledout.names import is_integer
+from pulledout.runs import Run
+
+_HIGHEST_LIMIT = 100000
+
+
+class Table:
+    """The states to which runs without a fault lead in which at most so many hands come."""
+
+    def __init__(self, book, *, hands=2, limit=6000):
+        if not is_integer(hands, 0, MOST_HANDS):
+            raise InvalidNumber(hands)
+        if not is_integer(limit, 1, _HIGHEST_LIMIT):
+            raise InvalidNumber(limit)
+        self._book = book
+        self._most = hands
+        # By state, shorter runs ahead: the length of a shortest run, and the last state and move of one.
+        self._lengths = {}
+        self._origins = {}
+        # By word: the state that shows it first, and the move that is the fault, or None.
+        self._shown = {}
+        self._explore(limit)
+
+    def __len__(self):
+        return len(self._lengths)
+
+    def __contains__(self, value):
+        return is_state(self._book, value) and value in self._lengths
+
+    def __getitem__(self, at):
+        if at not in self:
+            raise InvalidState(at)
+        return self._lengths[at]
+
+    def __iter__(self):
+        raise TypeError("a table is not iterated over")
+
+    def states(self):
+        """The list of the states, those with shorter runs ahead."""
+        return list(self._lengths)
+
+    def run_to(self, state):
+        """A shortest Run to the state."""
+        if state not in self:
+            raise InvalidState(state)
+        return Run.of(self._moves_to(state))
+
+    def links(self, state):
+        """The list of the tuples (move, state behind it) of the possible moves that are no faults."""
+        if state not in self:
+            raise InvalidState(state)
+        told = steps_on(self._book.engine, state, self._most)
+        return [(move, behind) for move, word, behind in told if word is None]
+
+    def faults(self):
+        """A dict from each word of a fault that one of the runs shows to a shortest such Run."""
+        return {word: self._run_that_shows(word) for word in FAULT_WORDS if word in self._shown}
+
+    def _explore(self, limit):
+        level = {self._book.engine.at_first: None}
+        length = 0
+        while len(level) > 0:
+            for state in level:
+                self._lengths[state] = length
+                self._origins[state] = level[state]
+            if len(self._lengths) > limit:
+                raise LimitExceeded(limit)
+            level = self._next_level(level)
+            length = length + 1
+
+    def _next_level(self, level):
+        """From each new state behind the ones of a level to where it comes from; the faults there are kept."""
+        found = {}
+        for state in level:
+            self._look_at(state)
+            for move, word, behind in steps_on(self._book.engine, state, self._most):
+                if word is not None:
+                    self._shown.setdefault(word, (state, move))
+                elif behind not in self._lengths and behind not in found:
+                    found[behind] = (state, move)
+        return found
+
+    def _look_at(self, state):
+        if is_stuck_at(self._book.engine, state):
+            self._shown.setdefault("stuck", (state, None))
+        if is_kept_at(self._book.engine, state):
+            self._shown.setdefault("kept", (state, None))
+
+    def _moves_to(self, state):
+        told = []
+        origin = self._origins[state]
+        while origin is not None:
+            state, move = origin
+            told.append(move)
+            origin = self._origins[state]
+        told.reverse()
+        return told
+
+    def _run_that_shows(self, word):
+        state, move = self._shown[word]
+        told = self._moves_to(state)
+        return Run.of(told if move is None else [*told, move])
