@@ -15,23 +15,19 @@ class Bench:
         if not is_integer(most, 0, MOST_HANDS):
             raise InvalidNumber(most)
         self._book = book
-        self._most = most
-        self._made = []
-        # The states ahead of each move made, and behind the last one.
-        self._passed = [book.engine.at_first]
-        self._held = None
+        self._past = Past(self, book.engine.at_first, most)
 
     def __call__(self, move):
         engine = self._book.engine
-        state = self._passed[-1]
-        if not is_move(move) or move not in possible_moves(engine, state, self._most):
+        state = self._past.passed[-1]
+        if not is_move(move) or move not in self.moves():
             raise InvalidMove(move)
         word = fault_word(engine, state, move)
         if word is not None:
             raise Faulty(word, move)
         behind = state_behind(engine, state, move)
-        self._made.append(move)
-        self._passed.append(behind)
+        self._past.made.append(move)
+        self._past.passed.append(behind)
         return behind
 
     @property
@@ -42,27 +38,27 @@ class Bench:
     @property
     def state(self):
         """The state behind the moves made."""
-        return self._passed[-1]
+        return self._past.passed[-1]
 
     @property
     def deeds(self):
         """The Run of the moves made."""
-        return Run.of(self._made)
+        return Run.of(self._past.made)
 
     @property
     def freed(self):
         """Whether the record is freed."""
-        return is_freed_at(self._book.engine, self._passed[-1])
+        return is_freed_at(self._book.engine, self._past.passed[-1])
 
     @property
     def kept(self):
         """Whether the record is kept for good."""
-        return is_kept_at(self._book.engine, self._passed[-1])
+        return is_kept_at(self._book.engine, self._past.passed[-1])
 
     @property
     def most(self):
         """The most hands that are let come."""
-        return self._most
+        return self._past.let_come
 
     @most.setter
     def most(self, value):
@@ -70,46 +66,47 @@ class Bench:
 
     def allow(self, most):
         """Let at most so many hands come in all."""
-        came = self._passed[-1][0]
+        past = self._past
+        came = past.passed[-1][0]
         if not is_integer(most, came, MOST_HANDS):
             raise InvalidNumber(most)
-        self._most = most
+        past.let_come = most
 
     def moves(self):
         """The list of the possible moves, faults too."""
-        return possible_moves(self._book.engine, self._passed[-1], self._most)
+        return possible_moves(self._book.engine, self._past.passed[-1], self._past.let_come)
 
     def faults(self):
         """The list of the tuples (move, word) of the possible moves that are faults."""
-        engine = self._book.engine
-        state = self._passed[-1]
-        words = [(move, fault_word(engine, state, move)) for move in self.moves()]
+        state = self._past.passed[-1]
+        words = [(move, fault_word(self._book.engine, state, move)) for move in self.moves()]
         return [(move, word) for move, word in words if word is not None]
 
     def stuck(self):
         """Whether the state is stuck."""
-        return is_stuck_at(self._book.engine, self._passed[-1])
+        return is_stuck_at(self._book.engine, self._past.passed[-1])
 
     def __len__(self):
-        return len(self._made)
+        return len(self._past.made)
 
     def back(self):
         """Take the last move back."""
-        if len(self._made) == 0:
+        if len(self._past.made) == 0:
             raise NothingToUndo("back")
-        self._made.pop()
-        self._passed.pop()
+        self._past.made.pop()
+        self._past.passed.pop()
 
     def copy(self):
         """A bench with the same moves made, which goes on by itself."""
-        twin = Bench(self._book, most=self._most)
-        twin._made = list(self._made)
-        twin._passed = list(self._passed)
+        twin = Bench(self._book, most=self._past.let_come)
+        past = twin._past
+        past.made = list(self._past.made)
+        past.passed = list(self._past.passed)
         return twin
 
     def trial(self):
         """A context that gives the bench, and behind which all is as ahead of it."""
-        return BenchTrial(self)
+        return self._past
 
     def attempt(self, visitor):
         """What the function returns for the bench; behind it all is as ahead of it."""
@@ -117,32 +114,36 @@ class Bench:
             return visitor(bench)
 
 
-class Held:
-    """What a bench was when a trial began, and what is held for the trials around that one."""
+class Past:
+    """What has been done on a bench; it is a context, too: behind it, it is what it was ahead of it."""
 
-    def __init__(self, around, made, passed, most):
+    def __init__(self, bench, first, most):
+        self._bench = bench
+        self.made = []
+        # The states ahead of each move made, and behind the last one.
+        self.passed = [first]
+        self.let_come = most
+        self._held = None
+
+    def __enter__(self):
+        self._held = Held(self._held, self.made, self.passed, self.let_come)
+        # What is held stays as it is: the trial goes on with lists of its own.
+        self.made = list(self.made)
+        self.passed = list(self.passed)
+        return self._bench
+
+    def __exit__(self, kind, value, trace):
+        self.made = self._held.made
+        self.passed = self._held.passed
+        self.let_come = self._held.let_come
+        self._held = self._held.around
+
+
+class Held:
+    """What the past of a bench was when a trial began, and what is held for the trials around that one."""
+
+    def __init__(self, around, made, passed, let_come):
         self.around = around
         self.made = made
         self.passed = passed
-        self.most_then = most
-
-
-class BenchTrial:
-    """The context in which a bench is tried."""
-
-    def __init__(self, bench):
-        self._bench = bench
-
-    def __enter__(self):
-        bench = self._bench
-        bench._held = Held(bench._held, bench._made, bench._passed, bench._most)
-        # What is held stays as it is: the trial goes on with lists of its own.
-        bench._made = list(bench._made)
-        bench._passed = list(bench._passed)
-        return bench
-
-    def __exit__(self, kind, value, trace):
-        self._bench._made = self._bench._held.made
-        self._bench._passed = self._bench._held.passed
-        self._bench._most = self._bench._held.most_then
-        self._bench._held = self._bench._held.around
+        self.let_come = let_come

@@ -202,6 +202,18 @@ def steps_on(engine, state, most):
     return told
 
 
+def moves_to(origins, state):
+    """The list of the moves to a state, from a dict from each state to the one ahead of it and the move, or to None."""
+    told = []
+    origin = origins[state]
+    while origin is not None:
+        state, move = origin
+        told.append(move)
+        origin = origins[state]
+    told.reverse()
+    return told
+
+
 def is_stuck_at(engine, state):
     """Whether the puller cannot go on any more, or holds up others at its end."""
     _, _, _, done, leaked = state

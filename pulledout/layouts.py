@@ -143,9 +143,8 @@ def _may_stand(layout, place):
         return not locked
     if word == "unlock":
         return locked
-    if word == "let":
-        return layout.leads[place] == (layout.end,) and not under and not locked
-    return True
+    # That one is neither under way nor has the lock at a let is asked of every last item.
+    return word != "let" or layout.leads[place] == (layout.end,)
 
 
 def _ends_badly(layout, place):

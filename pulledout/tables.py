@@ -1,6 +1,6 @@
 """Tables: all states to which the runs of a book without a fault lead ([8] to [11])."""
 
-from pulledout.engine import FAULT_WORDS, MOST_HANDS, is_kept_at, is_stuck_at, steps_on
+from pulledout.engine import FAULT_WORDS, MOST_HANDS, is_kept_at, is_stuck_at, moves_to, steps_on
 from pulledout.errors import InvalidNumber, InvalidState, LimitExceeded
 from pulledout.moves import is_state
 from pulledout.names import is_integer
@@ -48,7 +48,7 @@ class Table:
         """A shortest Run to the state."""
         if state not in self:
             raise InvalidState(state)
-        return Run.of(self._moves_to(state))
+        return Run.of(moves_to(self._origins, state))
 
     def links(self, state):
         """The list of the tuples (move, state behind it) of the possible moves that are no faults."""
@@ -68,12 +68,10 @@ class Table:
             for state in level:
                 self._lengths[state] = length
                 self._origins[state] = level[state]
-            if len(self._lengths) > limit:
-                raise LimitExceeded(limit)
-            level = self._next_level(level)
+            level = self._next_level(level, limit)
             length = length + 1
 
-    def _next_level(self, level):
+    def _next_level(self, level, limit):
         """From each new state behind the ones of a level to where it comes from; the faults there are kept."""
         found = {}
         for state in level:
@@ -83,6 +81,8 @@ class Table:
                     self._shown.setdefault(word, (state, move))
                 elif behind not in self._lengths and behind not in found:
                     found[behind] = (state, move)
+            if len(self._lengths) + len(found) > limit:
+                raise LimitExceeded(limit)
         return found
 
     def _look_at(self, state):
@@ -91,17 +91,7 @@ class Table:
         if is_kept_at(self._book.engine, state):
             self._shown.setdefault("kept", (state, None))
 
-    def _moves_to(self, state):
-        told = []
-        origin = self._origins[state]
-        while origin is not None:
-            state, move = origin
-            told.append(move)
-            origin = self._origins[state]
-        told.reverse()
-        return told
-
     def _run_that_shows(self, word):
         state, move = self._shown[word]
-        told = self._moves_to(state)
+        told = moves_to(self._origins, state)
         return Run.of(told if move is None else [*told, move])

@@ -6,10 +6,10 @@ least is left to do, as far as each hand and each work, looked at alone with the
 
 from heapq import heappop, heappush
 
-from pulledout.engine import is_freed_at, next_place, steps_on
+from pulledout.engine import is_freed_at, moves_to, next_place, steps_on
 
 # More moves than one alone ever needs to come to its end.
-_NO_WAY = 1000000
+NO_WAY = 1000000
 
 
 class Guide:
@@ -21,7 +21,7 @@ class Guide:
         self._of_works = [_work_table(engine, number) for number in range(len(engine.jobs))]
 
     def least_left(self, state):
-        """No more moves than a way out of the state has, and _NO_WAY or more only if there is none."""
+        """No more moves than a way out of the state has, and NO_WAY or more only if there is none."""
         _, hands, works, done, _ = state
         of_hands = sum([self._of_hands[done][place] for place in hands])
         of_works = sum([table[done][work] for table, work in zip(self._of_works, works)])
@@ -40,41 +40,34 @@ class Search:
         self._pushed = 0
         self._come_to(state, 0, None)
 
+    def __len__(self):
+        return len(self._lengths)
+
     def way(self):
         """The list of the moves of a shortest way out, or None if there is none."""
         while len(self._queue) > 0:
             _, _, _, length, state = heappop(self._queue)
             if _is_out(self._engine, state):
-                return self._moves_to(state)
-            # Else a shorter way to the state has been found since.
+                return moves_to(self._origins, state)
+            # If not, a shorter way to the state has been found since.
             if length == self._lengths[state]:
                 self._go_on(state, length)
         return None
 
     def _go_on(self, state, length):
         for move, word, behind in steps_on(self._engine, state, 0):
-            if word is None and length + 1 < self._lengths.get(behind, _NO_WAY):
+            if word is None and length + 1 < self._lengths.get(behind, NO_WAY):
                 self._come_to(behind, length + 1, (state, move))
 
     def _come_to(self, state, length, origin):
         left = self._guide.least_left(state)
-        if left >= _NO_WAY:
+        if left >= NO_WAY:
             return
         self._lengths[state] = length
         self._origins[state] = origin
         self._pushed = self._pushed + 1
         # Among equal hopes the one nearest to its end comes first; the number keeps states from being compared.
         heappush(self._queue, (length + left, left, self._pushed, length, state))
-
-    def _moves_to(self, state):
-        told = []
-        origin = self._origins[state]
-        while origin is not None:
-            state, move = origin
-            told.append(move)
-            origin = self._origins[state]
-        told.reverse()
-        return told
 
 
 def _is_out(engine, state):
@@ -87,24 +80,24 @@ def _puller_left(engine, state):
     behind_let = max(done, engine.let_since)
     # Behind the let the record is freed where an empty is possible, so that one is a fault.
     if "empty" in engine.step_words[behind_let:]:
-        return _NO_WAY
+        return NO_WAY
     if leaked:
         return engine.many_steps - done + _cost_of_leak(engine, done)
     is_for_nobody = len(hands) == 0 or is_freed_at(engine, state)
     if is_for_nobody and any(list(engine.step_uses[behind_let:])):
-        return _NO_WAY
+        return NO_WAY
     return engine.many_steps - done
 
 
 def _cost_of_leak(engine, done):
-    return _NO_WAY if "empty" in engine.step_words[done:] else 0
+    return NO_WAY if "empty" in engine.step_words[done:] else 0
 
 
 def _hand_table(engine):
     table = []
     beyond = None
     for done in reversed(range(engine.many_steps + 1)):
-        costs = [_NO_WAY for _ in range(engine.hand.end)]
+        costs = [NO_WAY for _ in range(engine.hand.end)]
         for place in reversed(range(engine.hand.end)):
             costs[place] = min(_hand_goes(engine, costs, place, done), _hand_waits(engine, beyond, place, done))
         table.append(costs)
@@ -117,7 +110,7 @@ def _hand_goes(engine, costs, place, done):
     track = engine.hand
     word = track.item_words[place]
     if _is_barred(engine, track, place, done):
-        return _NO_WAY
+        return NO_WAY
     # A try may fail from the puller's let on, if no other hand holds.
     if word == "look" and done >= engine.out_since or word == "try" and done >= engine.let_since:
         return 1
@@ -130,9 +123,9 @@ def _hand_goes(engine, costs, place, done):
 def _hand_waits(engine, beyond, place, done):
     track = engine.hand
     if beyond is None or _holds_up(engine, track, place, done):
-        return _NO_WAY
+        return NO_WAY
     if engine.step_words[done] == "empty" and track.holding[place]:
-        return _NO_WAY
+        return NO_WAY
     return beyond[place]
 
 
@@ -158,9 +151,9 @@ def _work_goes(engine, costs, number, work, done):
     pending, place = work
     track = engine.jobs[number]
     if place is None:
-        return 1 + costs[(False, 0)] if pending else _NO_WAY
+        return 1 + costs[(False, 0)] if pending else NO_WAY
     if _is_barred(engine, track, place, done):
-        return _NO_WAY
+        return NO_WAY
     starts = track.started[place] == number and done < track.barred_since[place]
     behind = next_place(track, place, done)
     return 1 + costs[(pending or starts, behind if behind < track.end else None)]
@@ -169,12 +162,12 @@ def _work_goes(engine, costs, number, work, done):
 def _work_waits(engine, beyond, number, work, done):
     pending, place = work
     if beyond is None:
-        return 0 if work == (False, None) else _NO_WAY
+        return 0 if work == (False, None) else NO_WAY
     if place is not None and _holds_up(engine, engine.jobs[number], place, done):
-        return _NO_WAY
+        return NO_WAY
     is_target = engine.targets[done] == number
     if is_target and engine.step_words[done] == "idle" and place is not None:
-        return _NO_WAY
+        return NO_WAY
     return beyond[(pending and not (is_target and engine.step_words[done] == "forget"), place)]
 
 

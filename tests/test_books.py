@@ -251,6 +251,10 @@ class Parts(unittest.TestCase):
         with self.assertRaises(TypeError):
             Book(HANDS)
 
+    def test_not_iterated_over(self):
+        with self.assertRaises(TypeError):
+            list(self.book())
+
     def test_read_only(self):
         for name in ("hands", "puller"):
             with self.assertRaises(AttributeError):

@@ -405,6 +405,8 @@ class AsTuples(unittest.TestCase):
                 self.assertIs(list(part) in row, False)
             for value in ODD + (LET[0], ("out", "gone"), ("idle", "job"), ("use", None)):
                 self.assertIs(value in row, False, value)
+            for value in (HOLD, LET, LEAVE, ("start", "tick"), ask(), ask(mark="dead"), ("down",), ("mark", "dead")):
+                self.assertIs(value in row, value in parts, value)
 
     def test_what_stands_in_ways_out_is_no_member(self):
         row = HandRow(LOOK, TRY, ask(USE, LET))
@@ -527,6 +529,8 @@ class Steps(unittest.TestCase):
             self.assertIs(row.is_behind(done, "mark", "dead"), False)
             self.assertIs(row.is_behind(done, "down"), False)
             self.assertIs(row.is_behind(done, "walk"), False)
+            for step in ((Same(),), ("mark", Same()), (self.OUT,), ()):
+                self.assertIs(row.is_behind(done, *step), False)
 
     def test_no_numbers_of_done_steps(self):
         for row in (PullRow(), PullRow(self.OUT, self.WAIT)):

@@ -238,6 +238,10 @@ class New(unittest.TestCase):
             self.assertEqual((one.states(), one.faults()), (two.states(), two.faults()))
             self.assertEqual([one.run_to(state) for state in one.states()], [two.run_to(state) for state in two.states()])
 
+    def test_not_iterated_over(self):
+        with self.assertRaises(TypeError):
+            list(Table(SOUND))
+
     def test_tables_are_themselves_alone(self):
         self.assertFalse(Table(SOUND) == Table(SOUND).states())
 
