@@ -1,22 +1,18 @@
 """Tables: all states to which the runs of a book without a fault lead ([8] to [11])."""
 
-from pulledout.engine import FAULT_WORDS, MOST_HANDS, is_kept_at, is_stuck_at, moves_to, steps_on
-from pulledout.errors import InvalidNumber, InvalidState, LimitExceeded
+from pulledout.engine import FAULT_WORDS, is_kept_at, is_stuck_at, moves_to, steps_on
+from pulledout.errors import InvalidState, LimitExceeded
+from pulledout.limits import check_hands, check_limit
 from pulledout.moves import is_state
-from pulledout.names import is_integer
 from pulledout.runs import Run
-
-_HIGHEST_LIMIT = 100000
 
 
 class Table:
     """The states to which runs without a fault lead in which at most so many hands come."""
 
     def __init__(self, book, *, hands=2, limit=6000):
-        if not is_integer(hands, 0, MOST_HANDS):
-            raise InvalidNumber(hands)
-        if not is_integer(limit, 1, _HIGHEST_LIMIT):
-            raise InvalidNumber(limit)
+        check_hands(hands)
+        check_limit(limit)
         self._book = book
         self._most = hands
         # By state, shorter runs ahead: the length of a shortest run, and the last state and move of one.
