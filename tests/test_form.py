@@ -1,10 +1,12 @@
 """The form of the package's files, as far as it is told by numbers and places."""
 
 import ast
+import builtins
 import unittest
 from pathlib import Path
 
-from pulledout import benches, books, closed, errors, faults, items, moves, names, rows, runs, tables
+from pulledout import (benches, books, closed, comparing, console, errors, faults, items, least, moves, names, orders,
+                       plain, rings, rows, runs, shelves, tables, texts)
 
 PACKAGE = Path(__file__).resolve().parent.parent / "pulledout"
 LIBRARY = {"heapq": ("heappush", "heappop", "heapify", "heapreplace", "heappushpop"),
@@ -24,7 +26,15 @@ INTERFACE = {names: ("is_name", "is_integer"),
              benches: ("Bench",),
              tables: ("Table",),
              faults: ("faults", "is_right", "fewest", "is_shown", "require_right", "meetings", "way_out"),
-             closed: ("closed_list", "is_closed")}
+             closed: ("closed_list", "is_closed"),
+             rings: ("is_tidy", "askable", "Reach", "unsafe_places"),
+             plain: ("Plain",),
+             orders: ("orders_of", "right_orders", "kept_pairs", "alternatives", "is_alternatives", "right_words"),
+             least: ("least_steps", "needed_steps", "Options"),
+             comparing: ("unlike", "told_apart"),
+             texts: ("write_item", "write_row", "write_book", "read_items", "read_steps", "read_book"),
+             shelves: ("Shelf",),
+             console: ("Console",)}
 # What the interface lists for each class.
 TUPLE_LIKE = ("of", "parts", "__len__", "__getitem__", "__iter__", "__contains__", "__eq__")
 PLACED = ("size", "item", "nexts", "holds", "is_under", "is_locked", "places_of")
@@ -37,7 +47,16 @@ METHODS = {rows.HandRow: TUPLE_LIKE + PLACED + ("opening",),
                       "__radd__", "__iadd__", "__eq__"),
            benches.Bench: ("__call__", "book", "state", "deeds", "freed", "kept", "most", "allow", "moves", "faults",
                            "stuck", "__len__", "back", "copy", "attempt", "trial"),
-           tables.Table: ("__len__", "__contains__", "states", "__getitem__", "run_to", "links", "faults")}
+           tables.Table: ("__len__", "__contains__", "states", "__getitem__", "run_to", "links", "faults"),
+           rings.Reach: ("goal", "lacks", "path", "events", "pairs", "choices", "cases", "__len__", "pairs_of", "order",
+                         "ring", "is_ring", "answer", "is_answer"),
+           plain.Plain: ("of", "sound", "opens", "asks", "pulls", "__len__", "__contains__", "__eq__", "pulled",
+                         "as_book", "ahead", "behind", "gaps", "openings", "faults"),
+           least.Options: ("add", "__iadd__", "book", "__len__", "__getitem__", "__iter__", "__contains__", "is_choice",
+                           "changed", "least_changes"),
+           shelves.Shelf: ("__setitem__", "put", "__getitem__", "drop", "__contains__", "__len__", "names", "__iter__",
+                           "words", "limit", "bound", "undo", "changes", "trial", "accept", "attempt"),
+           console.Console: ("shelf", "told")}
 
 
 def files():
@@ -64,6 +83,20 @@ class Form(unittest.TestCase):
             for sign in path.read_text("utf-8"):
                 self.assertTrue(sign == "\n" or " " <= sign <= "~", (path, sign))
 
+    def test_values(self):
+        allowed = {"len", "range", "enumerate", "zip", "min", "max", "sum", "abs", "sorted", "reversed", "int", "str",
+                   "bool", "list", "tuple", "dict", "set", "isinstance", "ord", "repr", "any", "all", "divmod", "iter",
+                   "next", "property", "staticmethod", "ValueError", "TypeError", "KeyError", "LookupError",
+                   "OverflowError", "RuntimeError"}
+        for path in files():
+            for node in ast.walk(ast.parse(path.read_text("utf-8"))):
+                # Where classes have an __eq__, nearly all that takes these takes lists alone.
+                self.assertNotIsInstance(node, (ast.GeneratorExp, ast.Global), path)
+                if isinstance(node, ast.Name) and hasattr(builtins, node.id):
+                    self.assertIn(node.id, allowed, path)
+                if isinstance(node, ast.Constant) and isinstance(node.value, str):
+                    self.assertNotIn(chr(37), node.value, path)
+
     def test_imports(self):
         for path in files():
             for node in ast.walk(ast.parse(path.read_text("utf-8"))):
@@ -89,7 +122,7 @@ class Form(unittest.TestCase):
 
     def test_no_dunder_methods_beyond_the_language(self):
         allowed = {"__init__", "__eq__", "__len__", "__iter__", "__contains__", "__getitem__", "__add__", "__radd__",
-                   "__iadd__", "__call__", "__enter__", "__exit__"}
+                   "__iadd__", "__setitem__", "__call__", "__enter__", "__exit__"}
         for path in files():
             for node in ast.walk(ast.parse(path.read_text("utf-8"))):
                 if isinstance(node, ast.FunctionDef) and node.name.startswith("__"):
