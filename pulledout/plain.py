@@ -91,10 +91,7 @@ class Plain:
 
     def gaps(self):
         """The list of the tuples (first, last) of numbers beside which the puller does not have the lock."""
-        many = len(self._pulls)
-        if "lock" not in self._pulls:
-            return [(0, many)]
-        unlocked = [(self.behind("unlock"), many)] if "unlock" in self._pulls else []
+        unlocked = [(self.behind("unlock"), len(self._pulls))] if "unlock" in self._pulls else []
         return [(0, self.ahead("lock")), *unlocked]
 
     def openings(self):
@@ -136,9 +133,7 @@ def _is_touched_locked(plain, opening, gap):
     lowest, highest = opening
     first, last = gap
     low = max(lowest, first)
-    if low > last or low > plain.ahead("mark"):
-        return False
-    return max(low, plain.behind("down")) <= min(last, highest)
+    return low <= plain.ahead("mark") and max(low, plain.behind("down")) <= min(last, highest)
 
 
 def _spans_around_wait(plain, opening):

@@ -162,6 +162,11 @@ class NeededSteps(unittest.TestCase):
         self.assertEqual(self.check(Book(BARE, puller=(LET,))), [0])
         self.assertEqual(self.check(SAFE.changed(puller=(MARK, WAIT, WAIT, DOWN, LET))), [0, 4])
 
+    def test_a_mark_that_is_called_lock(self):
+        for name in ("lock", "unlock"):
+            hands = (LOOK, TRY, ENTER, ("ask", name, (LEAVE, LET)), TOUCH, LEAVE, LET)
+            self.assertEqual(self.check(Book(hands, puller=(("mark", name), WAIT, DOWN, LET))), [0, 1, 3])
+
     def test_drawn(self):
         right = [book for book in drawn(150) if is_right(book)]
         self.assertGreater(len(right), 20)
@@ -339,6 +344,7 @@ class Making(unittest.TestCase):
             self.assertIs(value in options, False)
         self.assertIs(SOUND_OPTION in Options(WORKING, SOUND_OPTION), True)
         self.assertIs(("puller", (Same(),) * 5) in Options(WORKING, SOUND_OPTION), False)
+        self.assertIs(("puller", SOUND[:4] + (Same(),)) in Options(WORKING, SOUND_OPTION), False)
 
     def test_new_lists(self):
         options = Options(WORKING, BARE_OPTION, WORK_OPTION)
@@ -456,6 +462,14 @@ class LeastChanges(unittest.TestCase):
         options = Options(Book((LOOK, TRY, TOUCH, LET), puller=(DOWN, LET)), ("hands", (LOOK, TRY) + asks + (LET,)),
                           ("puller", (("mark", "c"), ("mark", "d"))), ("puller", (("mark", "a"), DOWN)))
         self.assertEqual(options.least_changes(), [(0,)])
+
+    def test_choices_that_are_looked_at_and_make_no_book(self):
+        asks = tuple(("ask", name, (LET,)) for name in ("a", "b"))
+        options = Options(Book(BARE, puller=()), ("hands", (LOOK, TRY) + asks + (LET,)),
+                          ("puller", (("mark", "c"), ("mark", "d"))), PULL_OPTION)
+        with self.assertRaises(InvalidBook):
+            options.changed((0, 1))
+        self.assertEqual(options.least_changes(), [(2,)])
 
     def test_no_limits(self):
         for options in (Options(SAFE, PULL_OPTION), Options(SEVEN), Options(EARLY)):

@@ -239,6 +239,29 @@ class Told(unittest.TestCase):
                                            ((("hand", 5), ("puller", 0)), (("puller", 2), ("hand", 4)))])
         self.assertEqual((touch.lacks, len(touch), list(touch.cases())), (False, 4, [(0, 0), (0, 1), (1, 0), (1, 1)]))
 
+    def test_two_unlocks_behind(self):
+        # Only the first one gives the lock back that was taken there.
+        reach = Reach(book((LOOK, TRY, LOCK, TOUCH, UNLOCK, LET), LOCK, DOWN, UNLOCK, LOCK, UNLOCK), 3)
+        self.assertEqual(reach.choices(), [((("hand", 3), ("puller", 0)), (("puller", 2), ("hand", 2))),
+                                           ((("hand", 3), ("puller", 3)), (("puller", 4), ("hand", 2)))])
+        parts = ((LOOK, TRY, LOCK, TOUCH, UNLOCK, LET), {}, (LOCK, DOWN, UNLOCK, LOCK, UNLOCK))
+        self.assertEqual(reach.choices(), reaches.choices(parts, 3))
+        self.assertEqual(reach.answer()[0], "run")
+
+    def test_names_that_are_words(self):
+        """Works and marks under the words of items and steps are nothing but works and marks."""
+        def told(work, mark):
+            hands = (LOOK, HOLD, ("start", work), ("ask", mark, (("start", work), LET)), TOUCH, LET)
+            named = Book(hands, {work: (USE,)}, puller=(("mark", mark), ("bar", work), DOWN, LET))
+            return [(reach.goal, reach.path(), reach.pairs(), reach.choices(), reach.lacks)
+                    for reach in [Reach(named, place) for place in askable(named)]]
+        known = told("job", "gone")
+        self.assertEqual([goal for goal, *_ in known], [1, 6])
+        for word in ("look", "hold", "try", "let", "enter", "leave", "touch", "use", "lock", "unlock", "start", "ask", "out",
+                     "mark", "wait", "empty", "down", "bar", "forget", "idle"):
+            self.assertEqual(told(word, "gone"), known, word)
+            self.assertEqual(told("job", word), known, word)
+
     def test_choices_in_their_order(self):
         hands = LOCKED + (ENTER, LEAVE, LOCK, ENTER, TOUCH, LEAVE, UNLOCK, LET)
         reach = Reach(book(hands, EMPTY, WAIT, LOCK, DOWN), 8)
