@@ -43,7 +43,8 @@ class Bench:
     @property
     def deeds(self):
         """The Run of the moves made."""
-        return Run.of(self._past.made)
+        made = self._past.made
+        return Run(*made)
 
     @property
     def freed(self):

@@ -81,7 +81,7 @@ def _hand_row(hands):
     if not isinstance(hands, tuple):
         raise InvalidBook("hands", None)
     try:
-        return HandRow.of(hands)
+        return HandRow(*hands)
     except InvalidItem as e:
         raise InvalidBook("hands", None) from e
 
@@ -103,7 +103,7 @@ def _work_row(name, row):
     if not isinstance(row, tuple):
         raise InvalidBook("works", name)
     try:
-        return WorkRow.of(row)
+        return WorkRow(*row)
     except InvalidItem as e:
         raise InvalidBook("works", name) from e
 
@@ -114,7 +114,7 @@ def _pull_row(puller):
     if not isinstance(puller, tuple):
         raise InvalidBook("puller", None)
     try:
-        return PullRow.of(puller)
+        return PullRow(*puller)
     except InvalidStep as e:
         raise InvalidBook("puller", None) from e
 

@@ -29,7 +29,8 @@ def told_apart(book, other, *, hands=1, limit=6000):
         for states in level:
             move = _telling_move(books, states, hands)
             if move is not None:
-                return Run.of([*moves_to(origins, states), move])
+                told = [*moves_to(origins, states), move]
+                return Run(*told)
         level = _next_level(books, level, origins, hands, limit)
     return None
 

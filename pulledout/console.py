@@ -48,7 +48,8 @@ class Console:
 
     def _faults(self, word, rest):
         if word == "plain":
-            return Plain.of(rest[0], rest[1], rest[2:]).faults()
+            opens, asks, *pulls = rest
+            return Plain(opens, asks, *pulls).faults()
         return list(faults(_book_of(rest), limit=self._shelf.limit))
 
     def _told_of_shelf(self, word, rest):

@@ -66,7 +66,7 @@ def way_out(book, state):
     if not is_state(book, state):
         raise InvalidState(state)
     way = Search(book.engine, state).way()
-    return None if way is None else Run.of(way)
+    return None if way is None else Run(*way)
 
 
 def _check_word(word):

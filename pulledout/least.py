@@ -120,8 +120,9 @@ def _is_within(known, chosen):
 
 def _with_steps(book, chosen):
     """The book with these steps alone, or None if they are no row."""
+    steps = [book.puller[index] for index in chosen]
     try:
-        row = PullRow.of([book.puller[index] for index in chosen])
+        row = PullRow(*steps)
     except InvalidStep:
         return None
     return book.changed(puller=row)
@@ -169,12 +170,13 @@ def _check_option(book, option):
 
 
 def _check_row(option):
+    parts = option[-1]
     if option[0] == "puller":
-        PullRow.of(option[-1])
+        PullRow(*parts)
     elif option[0] == "hands":
-        HandRow.of(option[-1])
+        HandRow(*parts)
     else:
-        WorkRow.of(option[-1])
+        WorkRow(*parts)
 
 
 def _with_options(book, options):

@@ -5,7 +5,6 @@ from pulledout.faults import is_right
 from pulledout.limits import check_limit
 from pulledout.names import is_integer
 from pulledout.picks import orders_of_numbers
-from pulledout.rows import PullRow
 
 _MOST_STEPS = 5
 _MOST_WORDS = 6
@@ -88,8 +87,8 @@ def _sorted_out(book, limit):
     wrong = []
     right = []
     for order in orders_of(book.puller):
-        row = PullRow.of([book.puller[index] for index in order])
-        told = right if is_right(book.changed(puller=row), limit=limit) else wrong
+        steps = tuple([book.puller[index] for index in order])
+        told = right if is_right(book.changed(puller=steps), limit=limit) else wrong
         told.append(order)
     return wrong, right
 

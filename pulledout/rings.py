@@ -129,7 +129,8 @@ class Reach:
     def _run_of(self, order):
         goal = ("hand", self._goal)
         events = order[:order.index(goal) + 1]
-        return Run.of([("come",), *[("go", number) if who == "hand" else ("step",) for who, number in events]])
+        moves = [("go", number) if who == "hand" else ("step",) for who, number in events]
+        return Run(("come",), *moves)
 
     def _is_run_there(self, value):
         return fault_at_end(self._book, value) is not None and value[len(value) - 1] == ("go", self._goal)

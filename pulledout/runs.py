@@ -44,16 +44,16 @@ class Run:
         return is_move(value) and value in self._moves
 
     def __add__(self, other):
-        behind = _moves_of(other)
-        return Run.of([*self._moves, *behind])
+        told = [*self._moves, *_moves_of(other)]
+        return Run(*told)
 
     def __radd__(self, other):
-        ahead = _moves_of(other)
-        return Run.of([*ahead, *self._moves])
+        told = [*_moves_of(other), *self._moves]
+        return Run(*told)
 
     def __iadd__(self, other):
-        behind = _moves_of(other)
-        return Run.of([*self._moves, *behind])
+        told = [*self._moves, *_moves_of(other)]
+        return Run(*told)
 
     def __eq__(self, other):
         return isinstance(other, Run) and self._moves == other._moves

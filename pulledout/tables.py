@@ -44,7 +44,8 @@ class Table:
         """A shortest Run to the state."""
         if state not in self:
             raise InvalidState(state)
-        return Run.of(moves_to(self._origins, state))
+        moves = moves_to(self._origins, state)
+        return Run(*moves)
 
     def links(self, state):
         """The list of the tuples (move, state behind it) of the possible moves that are no faults."""
@@ -90,4 +91,6 @@ class Table:
     def _run_that_shows(self, word):
         state, move = self._shown[word]
         told = moves_to(self._origins, state)
-        return Run.of(told if move is None else [*told, move])
+        if move is not None:
+            told.append(move)
+        return Run(*told)
